@@ -1,0 +1,1 @@
+"""Letters to a group whose members come, go, crash and are parted."""
