@@ -15,6 +15,14 @@ INTERFACE = {
                "DiskCrashed", "BadSchedule"),
     "limits": (),
     "texts": ("is_printable", "is_integer", "encode", "decode"),
+    "members": ("is_process", "is_member", "is_members", "is_view_id", "is_payload", "is_message"),
+    "letters": ("is_log", "last_index", "is_pending", "is_letter", "check_letter"),
+    "cells": ("Cells",),
+}
+
+# The methods that the interface lists for a class stand in the body of the class itself (L5).
+METHODS = {
+    ("cells", "Cells"): ("read", "write", "arm", "crash"),
 }
 
 BUILTINS = set(
@@ -116,6 +124,15 @@ class LanguageTest(unittest.TestCase):
                 body = ast.parse((PACKAGE / f"{name}.py").read_text("ascii")).body
                 found = {node.name for node in body if isinstance(node, (ast.FunctionDef, ast.ClassDef))}
                 self.assertEqual(set(defined) - found, set())
+
+    def test_the_methods_of_the_interface_are_defined_in_their_classes(self):
+        for (name, wanted), methods in METHODS.items():
+            with self.subTest(file=name, wanted=wanted):
+                found = [node for node in nodes_of(PACKAGE / f"{name}.py")
+                         if isinstance(node, ast.ClassDef) and node.name == wanted]
+                self.assertEqual(len(found), 1)
+                names = {node.name for node in found[0].body if isinstance(node, ast.FunctionDef)}
+                self.assertEqual(set(methods) - names, set())
 
 
 if __name__ == "__main__":
