@@ -18,11 +18,18 @@ INTERFACE = {
     "members": ("is_process", "is_member", "is_members", "is_view_id", "is_payload", "is_message"),
     "letters": ("is_log", "last_index", "is_pending", "is_letter", "check_letter"),
     "cells": ("Cells",),
+    "lives": ("life_text", "life_of", "next_life"),
+    "watch": ("Watch",),
+    "order": ("Order",),
+    "change": ("Attempt", "rest_of"),
 }
 
 # The methods that the interface lists for a class stand in the body of the class itself (L5).
 METHODS = {
     ("cells", "Cells"): ("read", "write", "arm", "crash"),
+    ("watch", "Watch"): ("heard", "knows", "tick", "reach"),
+    ("order", "Order"): ("cast", "take", "heard", "again", "log", "pending"),
+    ("change", "Attempt"): ("add", "missing", "ready", "finals"),
 }
 
 BUILTINS = set(
