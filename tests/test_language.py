@@ -22,6 +22,9 @@ INTERFACE = {
     "watch": ("Watch",),
     "order": ("Order",),
     "change": ("Attempt", "rest_of"),
+    "member": ("Member",),
+    "net": ("is_groups", "Net"),
+    "acts": ("check_act",),
 }
 
 # The methods that the interface lists for a class stand in the body of the class itself (L5).
@@ -30,6 +33,8 @@ METHODS = {
     ("watch", "Watch"): ("heard", "knows", "tick", "reach"),
     ("order", "Order"): ("cast", "take", "heard", "again", "log", "pending"),
     ("change", "Attempt"): ("add", "missing", "ready", "finals"),
+    ("member", "Member"): ("member", "view", "frozen", "cast", "tick", "receive", "log", "waiting", "events"),
+    ("net", "Net"): ("send", "take", "double", "move", "packets", "part", "heal", "joined", "groups"),
 }
 
 BUILTINS = set(
