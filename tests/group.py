@@ -4,6 +4,7 @@ from mustercall.cells import Cells
 from mustercall.errors import DiskCrashed
 from mustercall.letters import is_letter
 from mustercall.member import Member
+from mustercall.texts import decode, encode
 
 
 class Group:
@@ -21,6 +22,7 @@ class Group:
         self.ticks = 0
         self.part_of = [0] * count
         self.entered = {}
+        self.checked = set()
         for process in range(count):
             self.start(process)
 
@@ -60,10 +62,18 @@ class Group:
             self.entered[view_id] = member.member()
             self.case.assertEqual((view_id[1], members[0]), (member.member(),) * 2)
         for receiver, letter in letters:
-            self.case.assertTrue(is_letter(self.count, letter), letter)
+            self.check_letter(letter)
             self.case.assertEqual(letter[1], member.member())
             self.case.assertNotEqual(receiver, process)
             self.packets.append((self.ticks, process, receiver, letter))
+
+    def check_letter(self, letter):
+        if letter in self.checked:
+            return
+        self.checked.add(letter)
+        self.case.assertTrue(is_letter(self.count, letter), letter)
+        # Point 119: a letter is a plain value, and those of such runs are not too long.
+        self.case.assertEqual(decode(encode(letter)), letter)
 
     def heads(self, keep):
         """Return the positions of the packets that are the oldest ones of their sender to their receiver."""

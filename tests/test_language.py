@@ -25,6 +25,10 @@ INTERFACE = {
     "member": ("Member",),
     "net": ("is_groups", "Net"),
     "acts": ("check_act",),
+    "world": ("World",),
+    "schedule": ("parse_schedule", "act_line", "run_schedule"),
+    "history": ("History",),
+    "judge": ("view_fault", "deliver_fault", "cause_fault", "together_fault", "own_fault", "judge"),
 }
 
 # The methods that the interface lists for a class stand in the body of the class itself (L5).
@@ -35,6 +39,8 @@ METHODS = {
     ("change", "Attempt"): ("add", "missing", "ready", "finals"),
     ("member", "Member"): ("member", "view", "frozen", "cast", "tick", "receive", "log", "waiting", "events"),
     ("net", "Net"): ("send", "take", "double", "move", "packets", "part", "heal", "joined", "groups"),
+    ("world", "World"): ("act", "time", "packets", "groups", "is_up", "member", "disk", "views", "history"),
+    ("history", "History"): ("add", "events"),
 }
 
 BUILTINS = set(

@@ -3,9 +3,10 @@
 import itertools
 import unittest
 
-from mustercall.errors import BadLetter
+from mustercall.errors import BadLetter, BadText
 from mustercall.letters import check_letter, is_letter, is_log, is_pending, last_index
-from mustercall.limits import MOST_NUMBER
+from mustercall.limits import MOST_LENGTH, MOST_NUMBER
+from mustercall.texts import decode, encode
 from odd import not_plain
 
 PERCENT = chr(37)
@@ -373,6 +374,50 @@ class CheckTest(unittest.TestCase):
 
     def test_a_group_of_one_process_has_no_letters_to_receive(self):
         self.assert_bad(1, 0, ("higher", (0, 1), (1, (0, 1)), (1, (0, 1))))
+
+
+def depth(value):
+    """Return the depth of a plain value (point 104)."""
+    if not isinstance(value, tuple):
+        return 0
+    return 1 + max((depth(item) for item in value), default=0)
+
+
+class PlainTest(unittest.TestCase):
+    """Point 119."""
+
+    # The greatest letters: all processes, the greatest numbers and the longest payloads.
+    MEMBERS = tuple((process, MOST_NUMBER) for process in range(12))
+    GREATEST = (MOST_NUMBER, LAST)
+    MESSAGES = tuple((member, 1, "a" * 30) for member in MEMBERS)
+    GREAT = (
+        ("here", LAST, GREATEST, MOST_NUMBER, GREATEST),
+        ("cast", LAST, GREATEST, MOST_NUMBER, "~" * 30),
+        ("order", LAST, GREATEST, MOST_NUMBER, (LAST, MOST_NUMBER, "a" * 30)),
+        ("propose", LAST, GREATEST, MEMBERS),
+        ("state", LAST, GREATEST, GREATEST, MESSAGES, ((2, ""), (3, "a" * 30))),
+        ("install", LAST, GREATEST, MEMBERS, (((7, ONE), MESSAGES), ((7, LAST), ()), (GREATEST, MESSAGES))),
+        ("higher", LAST, GREATEST, GREATEST),
+    )
+
+    def test_each_letter_is_a_plain_value(self):
+        for letter in LETTERS + self.GREAT:
+            self.assertTrue(is_letter(12, letter))
+            self.assertEqual(decode(encode(letter)), letter)
+            self.assertLessEqual(depth(letter), 6)
+
+    def test_the_depth_of_each_kind(self):
+        depths = {"here": 3, "cast": 3, "order": 3, "propose": 3, "state": 4, "install": 6, "higher": 3}
+        for letter in LETTERS + self.GREAT:
+            self.assertEqual(depth(letter), depths[letter[0]])
+
+    def test_a_letter_whose_text_is_too_long(self):
+        log = tuple((ONE, index, "a" * 30) for index in range(1, MOST_LENGTH // 50))
+        letter = ("install", ONE, ID, (ONE,), ((ID, log), ((4, ONE), log)))
+        self.assertIs(is_letter(1, letter), True)
+        self.assertEqual(depth(letter), 6)
+        with self.assertRaises(BadText):
+            encode(letter)
 
 
 class NoChangeTest(unittest.TestCase):

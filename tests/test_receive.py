@@ -71,7 +71,7 @@ class RefusedTest(Case):
     def test_letters_of_the_own_process(self):
         for me in (B, (1, 2), (1, 7)):
             letters = [here(me, (9, me), 0, (9, me)), ("cast", me, VIEW, 1, "a"), ("order", me, VIEW, 1, (me, 1, "a")),
-                       propose((9, me), *TRIO), state(me, (1, B)), state(C, (1, me))[:1] + (me,) + state(C, (1, me))[2:],
+                       propose((9, me), *TRIO), state(me, (1, B)), state(me, (1, me)),
                        install((9, me), TRIO, *empty_finals(TRIO)), ("higher", me, (1, B), (9, A))]
             for (name, make), letter in itertools.product(MAKES.items(), letters):
                 with self.subTest(name=name, letter=letter):
@@ -367,9 +367,9 @@ class HereTest(Case):
 
     def test_a_strayed_member(self):
         for letter, has_strayed in (
-                (here(B, (1, A), 0, (1, B)), True), (here(B, (1, A), 0, (2, A)), True), (here(B, (0, B), 0, (2, A)), True),
-                (here(B, (2, B)), True), (here(C, (1, D)), True), (here(B, (1, A)), False),
-                (here(B, (0, B), 0, (1, A)), False), (here(B, (0, B)), False)):
+                (here(B, (1, A), 0, (1, B)), True), (here(B, (1, A), 0, (2, A)), True),
+                (here(B, (0, B), 0, (2, A)), True), (here(B, (2, B)), True), (here(C, (1, D)), True),
+                (here(B, (1, A)), False), (here(B, (0, B), 0, (1, A)), False), (here(B, (0, B)), False)):
             with self.subTest(letter=letter):
                 member = leader(A, B, C)
                 member.receive(letter)
